@@ -14,6 +14,10 @@ class Cell:
     def units(self):
         return 1 + len(self.fields) + self.bulk
 
+    def has_field(self, field):
+        # A number below nought would be counted from the list's end.
+        return 0 <= field < len(self.fields)
+
 
 class Heap:
     def __init__(self, room):
@@ -52,11 +56,15 @@ class Heap:
         return [place for place in range(len(self.cells)) if self.cells[place] is not None]
 
 
-def birth_at(heap, place):
+def cell_at(heap, place):
     # A place below nought would be counted from the list's end.
     if place is None or place < 0 or place >= len(heap.cells):
         return None
-    cell = heap.cells[place]
+    return heap.cells[place]
+
+
+def birth_at(heap, place):
+    cell = cell_at(heap, place)
     if cell is None:
         return None
     return cell.birth

@@ -66,6 +66,16 @@ def bound(node):
     return []
 
 
+def bound_at_top(tree):
+    """The names that a file's top binds, one entry for each time."""
+    names = []
+    for node in tree.body:
+        parts = node.names if isinstance(node, ast.ImportFrom) else getattr(node, "targets", [node])
+        for part in parts:
+            names.extend(bound(part))
+    return names
+
+
 def is_text(node):
     return isinstance(node, ast.Expr) and isinstance(node.value, ast.Constant)
 
@@ -123,6 +133,78 @@ class Language(unittest.TestCase):
             ready = [name for name in drawn if not [other for other in drawn[name] if other in drawn]]
             self.assertTrue(ready, "files draw from one another: " + str(drawn))
             drawn = {name: drawn[name] for name in drawn if name not in ready}
+
+    def test_a_name_is_drawn_from_the_file_that_defines_it(self):
+        for name, (text, tree) in self.files.items():
+            for node in tree.body:
+                if isinstance(node, ast.ImportFrom):
+                    other = self.files[node.module.split(".")[1] + ".py"][1]
+                    own = [bound_at_top(ast.Module([part], [])) for part in other.body
+                           if not isinstance(part, ast.ImportFrom)]
+                    for alias in node.names:
+                        self.assertIn([alias.name], own, name)
+
+    def test_each_name_once_at_the_top(self):
+        for name, (text, tree) in self.files.items():
+            names = bound_at_top(tree)
+            self.assertEqual(len(names), len(set(names)), name)
+
+    def test_no_local_is_called_like_a_class_or_an_import(self):
+        for name, (text, tree) in self.files.items():
+            taken = []
+            for node in tree.body:
+                if isinstance(node, (ast.ImportFrom, ast.ClassDef)):
+                    taken.extend(bound_at_top(ast.Module([node], [])))
+            for part in tree.body:
+                if isinstance(part, (ast.FunctionDef, ast.ClassDef)):
+                    for node in ast.walk(part):
+                        if isinstance(node, (ast.arg, ast.Name)):
+                            self.assertEqual([local for local in bound(node) if local in taken], [], name)
+
+    def test_lists_and_dicts_of_the_top(self):
+        for name, (text, tree) in self.files.items():
+            kept = []
+            for part in tree.body:
+                if isinstance(part, ast.Assign) and isinstance(part.value, (ast.List, ast.Dict)):
+                    kept.append(part.targets[0].id)
+                    inner = [node for node in ast.walk(part.value) if isinstance(node, (ast.List, ast.Dict))]
+                    self.assertEqual(inner, [part.value], name)
+            # Read by an index alone: each other mention but the binding itself is out.
+            for node in ast.walk(tree):
+                if isinstance(node, ast.Subscript) and isinstance(node.value, ast.Name) and node.value.id in kept:
+                    self.assertIsInstance(node.ctx, ast.Load, name)
+            read = [node.value for node in ast.walk(tree) if isinstance(node, ast.Subscript)]
+            for node in ast.walk(tree):
+                if isinstance(node, ast.Name) and node.id in kept and isinstance(node.ctx, ast.Load):
+                    self.assertIn(node, read, name)
+
+    def test_classes_are_called_or_named_alone(self):
+        classes = [node.name for where, node in self.nodes() if isinstance(node, ast.ClassDef)]
+        fit = []
+        for where, node in self.nodes():
+            if isinstance(node, ast.Call):
+                fit.append(node.func)
+                if isinstance(node.func, ast.Name) and node.func.id == "isinstance":
+                    fit.extend(ast.walk(node.args[1]))
+            if isinstance(node, ast.ClassDef):
+                fit.extend(node.bases)
+            if isinstance(node, ast.ExceptHandler):
+                fit.extend(ast.walk(node.type))
+            if isinstance(node, ast.Attribute) and node.attr == "__init__":
+                fit.append(node.value)
+        for where, node in self.nodes():
+            if isinstance(node, ast.Name) and node.id in classes:
+                self.assertIn(node, fit, where)
+
+    def test_numbers_and_texts(self):
+        for where, node in self.nodes():
+            if isinstance(node, ast.Constant) and isinstance(node.value, str):
+                self.assertNotIn("%", node.value, where)
+            if isinstance(node, ast.BinOp) and isinstance(node.op, ast.Pow):
+                self.assertIsInstance(node.right, ast.Constant, where)
+            if isinstance(node, ast.FormattedValue):
+                self.assertIsInstance(node.value, ast.Name, where)
+                self.assertIsNone(node.format_spec, where)
 
     def test_forms(self):
         for where, node in self.nodes():
