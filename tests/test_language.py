@@ -169,14 +169,29 @@ class Language(unittest.TestCase):
                     kept.append(part.targets[0].id)
                     inner = [node for node in ast.walk(part.value) if isinstance(node, (ast.List, ast.Dict))]
                     self.assertEqual(inner, [part.value], name)
-            # Read by an index alone: each other mention but the binding itself is out.
+            # Read by an index, by `in` and by `get`: each other mention but the binding itself is out.
             for node in ast.walk(tree):
                 if isinstance(node, ast.Subscript) and isinstance(node.value, ast.Name) and node.value.id in kept:
                     self.assertIsInstance(node.ctx, ast.Load, name)
             read = [node.value for node in ast.walk(tree) if isinstance(node, ast.Subscript)]
             for node in ast.walk(tree):
+                if isinstance(node, ast.Compare) and isinstance(node.ops[0], (ast.In, ast.NotIn)):
+                    read.append(node.comparators[0])
+                if isinstance(node, ast.Call) and isinstance(node.func, ast.Attribute) and node.func.attr == "get":
+                    read.append(node.func.value)
+            for node in ast.walk(tree):
                 if isinstance(node, ast.Name) and node.id in kept and isinstance(node.ctx, ast.Load):
                     self.assertIn(node, read, name)
+
+    def test_lists_and_dicts_of_the_top_are_not_drawn(self):
+        kept = []
+        for name, (text, tree) in self.files.items():
+            for part in tree.body:
+                if isinstance(part, ast.Assign) and isinstance(part.value, (ast.List, ast.Dict)):
+                    kept.append(part.targets[0].id)
+        for where, node in self.nodes():
+            if isinstance(node, ast.ImportFrom):
+                self.assertEqual([alias.name for alias in node.names if alias.name in kept], [], where)
 
     def test_classes_are_called_or_named_alone(self):
         classes = [node.name for where, node in self.nodes() if isinstance(node, ast.ClassDef)]

@@ -1,13 +1,17 @@
-"""What the tests of ways, worlds and deeds need in common."""
+"""What the tests need in common."""
 
 from greywalk.cells import Heap
+from greywalk.deeds import do
 from greywalk.kinds import Each, First, Kind, Last, kind_of
+from greywalk.sweeper import step
 from greywalk.world import World, begin
 
 PHASES = ("rest", "walk", "give", "lost")
 EVERY_WORDS = [
     looking + telling for looking in ("first", "each", "last") for telling in ("", " old", " new", " old new")
 ]
+SOUND_WORDS = ["first old", "first old new", "each old new", "last new", "last old new"]
+FIVE_HANDS = (("ann", 3), ("bob", 4), ("cid", 5), ("dot", 6), ("eve", 9))
 
 
 def lookings():
@@ -29,6 +33,24 @@ def world_in(phase, words="first old", room=1000, hands=(("ann", 4), ("bob", 3))
         begin(world)
         world.sweeper.phase = phase
     return world
+
+
+def do_all(world, deeds):
+    """The events of deeds, one behind the other."""
+    return [do(world, deed) for deed in deeds]
+
+
+def steps(world, many):
+    """The events of so many steps."""
+    return [step(world) for number in range(many)]
+
+
+def round_of(world):
+    """The events of steps, up to the end of a round or to a loss."""
+    events = [step(world)]
+    while events[-1][0] not in ("end", "lost"):
+        events.append(step(world))
+    return events
 
 
 def toned(world, tone, many=2, bulk=0):
