@@ -1,17 +1,28 @@
-"""Points 2 and 35: what holds over rounds with deeds between the steps, beside a heap that gives nothing back."""
+"""Points 2 and 35: what holds over rounds with deeds between the steps, beside a heap that gives nothing back.
+
+The same weaves are then run as scenes, with the sweeper's rows and without them, written, read and undone.
+"""
 
 import copy
 import unittest
 
 from greywalk.cells import birth_at
 from greywalk.deeds import do
-from greywalk.errors import EmptySlot, Full, NoField, NoName
+from greywalk.errors import EmptySlot, Full, NoField, NoName, Sound
+from greywalk.kinds import kind_of
+from greywalk.reading import read
+from greywalk.report import heard, report
+from greywalk.runs import is_lost, run, tell
+from greywalk.scenes import Scene, quiet, with_rows
 from greywalk.sweeper import step
+from greywalk.undoing import undoing
 from greywalk.ways import follow
 from greywalk.world import births_held, roots, told_cells
-from worlds import EVERY_WORDS, FIVE_HANDS, SOUND_WORDS, new_world, plain
+from greywalk.writing import written
+from worlds import EVERY_WORDS, FIVE_HANDS, SOUND_WORDS, all_of, new_world, plain
 
 WORDS = ("dear", "far", "near")
+REFUSALS = {EmptySlot: "empty", NoField: "field", Full: "full", NoName: "name"}
 
 
 class Dice:
@@ -157,14 +168,17 @@ def play_of(dice, endless):
     s = 1 + dice.below(len(slots) - 2)
     empty = len(slots) - 1
     field = field_of(dice, endless.fields.get(slots[t], []))
-    play = dice.of(("one", "one", "hang", "hang", "hang", "get", "hide", "move", "move", "over", "name", "seek",
-                    "seek"))
+    play = dice.of(("one", "one", "hang", "hang", "hang", "get", "hide", "hide", "move", "move", "over", "name", "seek",
+                    "seek", "tuck", "tuck"))
     if play == "one":
         return [deed_of(dice, endless)]
     if play == "seek":
         return [("seek", hand, s, dice.of(WORDS))]
     if play == "hang":
-        return [("make", hand, s, dice.of((0, 1, 2, 3, 3)), 0), ("put", hand, t, dice.below(3), s)]
+        let_go = [("drop", hand, s)] * dice.below(2)
+        return [("make", hand, s, dice.of((0, 1, 2, 3, 3)), 0), ("put", hand, t, dice.below(3), s)] + let_go
+    if play == "tuck":
+        return [("make", hand, s, 2, 0), ("put", hand, s, dice.below(2), t), ("drop", hand, t)]
     if play == "get":
         return [("get", hand, s, t, field)]
     if play == "hide":
@@ -195,6 +209,9 @@ class Watch:
         self.seen = set()
         self.events = []
         self.told = []
+        # The rows that were done, and the log that a run of them must answer.
+        self.rows = []
+        self.log = []
         self.begin_round()
 
     def begin_round(self):
@@ -212,6 +229,13 @@ class Watch:
         self.seen.add(event[0])
 
     def deed(self, deed):
+        self.rows.append(deed)
+        many = len(self.told)
+        refusal = self.deed_or_refusal(deed)
+        self.log.append(copy.deepcopy(self.told[many:]) or [("refused", REFUSALS[refusal], [])])
+
+    def deed_or_refusal(self, deed):
+        """Does a deed; where it is refused, its refusal's class is answered."""
         case = self.case
         try:
             expected = self.expected(deed)
@@ -222,7 +246,7 @@ class Watch:
             case.assertIs(taken.exception.__class__, error.__class__)
             case.assertEqual(plain(self.world), before)
             self.seen.add(error.__class__)
-            return
+            return error.__class__
         event = do(self.world, deed)
         self.keep(event)
         case.assertEqual(event[:2], expected)
@@ -234,6 +258,7 @@ class Watch:
         self.noted.extend(event[2])
         self.most_there = max(self.most_there, len(self.units))
         self.look_round()
+        return None
 
     def expected(self, deed):
         """What the endless heap answers; a make is refused where the cells not yet given back leave no room."""
@@ -265,6 +290,29 @@ class Watch:
         if event[0] != "lost":
             self.look_round()
         return event
+
+    def sweep(self, many):
+        """So many steps as one row, but none behind a loss."""
+        self.rows.append(("sweep", many))
+        self.log.append([])
+        for number in range(many):
+            self.log[-1].append(copy.deepcopy(self.step()))
+            if self.is_lost():
+                return
+
+    def sweep_to_rest(self):
+        """The steps up to the end of a round, or to a loss, as one row."""
+        events = [copy.deepcopy(self.step())]
+        while events[-1][0] not in ("end", "lost"):
+            events.append(copy.deepcopy(self.step()))
+        self.rows.append(("sweep", len(events)))
+        self.log.append(events)
+
+    def is_lost(self):
+        return self.world.sweeper.phase == "lost"
+
+    def scene(self):
+        return Scene(self.room, kind_of(self.words), list(self.hands), self.rows)
 
     def after_begin(self, event, places):
         self.begin_round()
@@ -340,32 +388,33 @@ class Watch:
         return len([event for event in self.told if event[0] == word])
 
 
-class Rounds(unittest.TestCase):
-    def weave(self, words, hands, room, seed):
-        """A watch behind some hundreds of deeds with steps between them, or behind a loss."""
-        dice = Dice(seed)
-        watch = Watch(self, words, hands, room)
-        # Few steps between the deeds in one weave, many in another.
-        pace = 2 + dice.below(3)
-        for number in range(150):
-            for deed in play_of(dice, watch.endless):
-                watch.deed(deed)
-                for again in range(dice.below(pace) * dice.below(2)):
-                    if watch.step()[0] == "lost":
-                        return watch
-        for number in range(2000):
-            if watch.step()[0] in ("end", "lost"):
-                break
-        self.assertIn(watch.world.sweeper.phase, ("rest", "lost"))
-        return watch
+def drawn(case, words, hands, room, seed, plays=150, to_rest=True):
+    """A watch behind some hundreds of deeds with steps between them, or behind a loss."""
+    dice = Dice(seed)
+    watch = Watch(case, words, hands, room)
+    # Few steps between the deeds in one weave, many in another.
+    pace = 2 + dice.below(3)
+    for number in range(plays):
+        for deed in play_of(dice, watch.endless):
+            watch.deed(deed)
+            many = dice.below(pace) * dice.below(2)
+            if many > 0:
+                watch.sweep(many)
+            if watch.is_lost():
+                return watch
+    if to_rest:
+        watch.sweep_to_rest()
+    return watch
 
+
+class Rounds(unittest.TestCase):
     def test_weaves_of_every_kind(self):
         seen = {}
         for words in EVERY_WORDS:
             seen[words] = set()
             for many in range(1, 6):
                 for seed in range(6):
-                    watch = self.weave(words, FIVE_HANDS[:many], (12, 60, 1000)[seed % 3], seed + 100 * many)
+                    watch = drawn(self, words, FIVE_HANDS[:many], (12, 60, 1000)[seed % 3], seed + 100 * many)
                     seen[words] |= watch.seen
                     # No event that was told has changed since.
                     self.assertEqual(watch.events, watch.told)
@@ -387,8 +436,8 @@ class Rounds(unittest.TestCase):
     def test_every_weave_of_a_kind_that_is_not_sound_can_be_carried_on_to_a_loss(self):
         for words in EVERY_WORDS:
             for many in range(1, 6):
-                watch = self.weave(words, FIVE_HANDS[:many], 30, many)
-                if watch.world.sweeper.phase != "lost":
+                watch = drawn(self, words, FIVE_HANDS[:many], 30, many)
+                if not watch.is_lost():
                     self.undo(watch)
                 sound = words in SOUND_WORDS
                 self.assertEqual(watch.world.sweeper.phase, "give" if sound else "lost", words)
@@ -444,6 +493,127 @@ class Rounds(unittest.TestCase):
                 while watch.step()[0] != "end":
                     pass
                 self.assertEqual(watch.told[-1][2][2], passes)
+
+
+class Scenes(unittest.TestCase):
+    """Drawn weaves, run as scenes: some end at rest, some within a round, some with a loss."""
+
+    @classmethod
+    def setUpClass(cls):
+        cls.watches = []
+        for words in EVERY_WORDS:
+            for many in range(1, 6):
+                for seed in range(4):
+                    cls.watches.append(drawn(cls(), words, FIVE_HANDS[:many], (12, 40, 1000)[seed % 3],
+                                             1000 + seed + 100 * many, 40 + 20 * seed, seed == 0))
+
+    def test_they_end_in_every_way(self):
+        ends = {(watch.words in SOUND_WORDS, watch.world.sweeper.phase) for watch in self.watches}
+        self.assertEqual(ends, {(sound, phase) for sound in (True, False) for phase in ("rest", "walk", "give")}
+                         | {(False, "lost")})
+        for watch in self.watches:
+            self.assertLessEqual(len(watch.rows), 1000)
+
+    def test_a_run_answers_what_was_told(self):
+        for watch in self.watches:
+            scene = watch.scene()
+            before = all_of(scene)
+            self.assertEqual(run(scene), watch.log)
+            self.assertEqual(run(scene), watch.log)
+            self.assertEqual(all_of(scene), before)
+            self.assertEqual(is_lost(watch.log), watch.is_lost())
+
+    def test_a_run_of_the_first_rows_alone(self):
+        for watch in self.watches:
+            many = len(watch.rows)
+            for most in (0, 1, many // 2, many - 1, many, many + 1):
+                self.assertEqual(run(watch.scene(), most), watch.log[:most])
+
+    def test_the_same_without_the_sweeper(self):
+        seen = {"alike": 0, "full": 0, "nothing found": 0, "given back": 0}
+        for watch in self.watches:
+            rows = []
+            told = []
+            for row, events in zip(watch.rows, watch.log):
+                if events == [("refused", "full", [])]:
+                    seen["full"] += 1
+                elif row[0] == "seek" and events[0][:2] == ("sought", None):
+                    # In a heap that gives nothing back a seek that finds nothing leaves an empty slot, as a drop does.
+                    rows.append(("drop",) + row[1:3])
+                    told.append(None)
+                    seen["nothing found"] += 1
+                else:
+                    rows.append(row)
+                    told.append(events)
+            seen["given back"] += len(watch.given_back)
+            seen["alike"] += rows == watch.rows
+            still = quiet(Scene(10 ** 15, kind_of(watch.words), list(watch.hands), rows))
+            told = [events for row, events in zip(rows, told) if row[0] != "sweep"]
+            log = run(still)
+            self.assertEqual(len(log), len(told))
+            for events, mine in zip(told, log):
+                self.assertEqual(len(mine), 1)
+                self.assertEqual(mine[0][2], [])
+                if events is not None:
+                    self.assertEqual(mine[0][:2], events[0][:2])
+        self.assertGreater(min(seen.values()), 10, seen)
+
+    def test_written_and_read(self):
+        for watch in self.watches:
+            scene = Scene(watch.room, kind_of(watch.words), list(watch.hands), watch.rows[:400])
+            text = written(scene)
+            self.assertEqual(all_of(read(text)), all_of(scene))
+            self.assertEqual(written(read(text)), text)
+            self.assertEqual(tell(text), report(watch.log[:400]))
+
+    def test_reported_and_heard(self):
+        for watch in self.watches:
+            text = report(watch.log)
+            self.assertEqual(heard(text), watch.log)
+            self.assertEqual(report(heard(text)), text)
+
+    def test_undone(self):
+        undone = 0
+        for watch in self.watches:
+            scene = watch.scene()
+            before = all_of(scene)
+            if watch.words in SOUND_WORDS:
+                with self.assertRaises(Sound):
+                    undoing(scene)
+                self.assertNotIn("lost", watch.seen)
+            else:
+                rows = undoing(scene)
+                self.leads_to_a_loss(watch, scene, rows)
+                undone += len(rows) > 1
+            self.assertEqual(all_of(scene), before)
+        self.assertGreater(undone, 30)
+
+    def leads_to_a_loss(self, watch, scene, rows):
+        self.assertEqual(rows == [], watch.is_lost())
+        log = run(with_rows(scene, rows))
+        self.assertEqual(log[:len(scene.rows)], watch.log)
+        self.assertEqual(len(log), len(scene.rows) + len(rows))
+        self.assertTrue(is_lost(log))
+        behind = log[len(scene.rows):]
+        for row, events in zip(rows, behind):
+            self.assertEqual(len(events), row[1] if row[0] == "sweep" else 1)
+            self.assertNotEqual(events[0][0], "refused")
+        self.assertEqual([event[0] for events in log for event in events].count("lost"), 1)
+
+    def test_undone_under_watch(self):
+        # Each deed and each step of the rows that lead to the loss is held against what is promised, too.
+        for words in EVERY_WORDS:
+            if words not in SOUND_WORDS:
+                for many in range(1, 6):
+                    watch = drawn(self, words, FIVE_HANDS[:many], 30, 77 + many, 60, False)
+                    for row in undoing(watch.scene()):
+                        self.assertFalse(watch.is_lost())
+                        if row[0] == "sweep":
+                            watch.sweep(row[1])
+                        else:
+                            watch.deed(row)
+                    self.assertTrue(watch.is_lost())
+                    self.assertEqual(run(watch.scene()), watch.log)
 
 
 if __name__ == "__main__":

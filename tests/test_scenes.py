@@ -7,7 +7,7 @@ from greywalk.kinds import Kind, kind_of
 from greywalk.scenes import Scene, quiet, with_rows, world_of
 from greywalk.sweeper import step
 from greywalk.world import World, births_held
-from worlds import EVERY_WORDS, FIVE_HANDS, plain
+from worlds import EVERY_WORDS, FIVE_HANDS, all_of, plain
 
 HANDS = [("ann", 3), ("bob", 9)]
 ROWS = [
@@ -15,10 +15,6 @@ ROWS = [
     ("drop", 1, 8), ("give", 0, 0, 1, 8), ("write", 1, 8, -5), ("read", 1, 8), ("name", 1, 8, "sweep"),
     ("seek", 0, 2, "sweep"), ("sweep", 2),
 ]
-
-
-def all_of(scene):
-    return (scene.room, scene.kind.words(), list(scene.hands), list(scene.rows))
 
 
 def new_scene(rows=ROWS, words="first old"):

@@ -99,6 +99,11 @@ def plain(world):
     )
 
 
+def all_of(scene):
+    """All that stands in a scene, in lists that nothing done to the scene later changes."""
+    return (scene.room, scene.kind.words(), list(scene.hands), list(scene.rows))
+
+
 def whole(world):
     """What plain tells, and behind it the objects themselves."""
     objects = [world.heap, world.kind, world.kind.looking, world.sweeper] + world.heap.cells + world.hands
